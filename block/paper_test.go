@@ -176,7 +176,7 @@ func drawList(r *rand.Rand) []api.Entry {
 		list = append(list, version)
 	}
 	sort.SliceStable(list, func(i, j int) bool { return paperLess(list[i], list[j]) })
-	return slices.CompactFunc(list, func(a, b api.Entry) bool { return !paperLess(a, b) })
+	return slices.CompactFunc(list, func(a, b api.Entry) bool { return a.Key == b.Key && a.Seq == b.Seq })
 }
 
 // blockOf: the list's block, asked for and held against the paper.
